@@ -4,6 +4,7 @@ package frames
 import (
 	"frames/api"
 	"frames/rights"
+	"frames/table"
 )
 
 // Machine: frames, rights, the table, environments.
@@ -11,6 +12,7 @@ type Machine struct {
 	envs   []environment
 	frames []frame
 	rights rights.Store
+	table  table.Table
 }
 
 // environment: raw and not alive, as long as nothing else is said.
@@ -30,6 +32,7 @@ func New(c api.Config) (*Machine, api.Errno) {
 	m := &Machine{
 		envs:   make([]environment, c.Envs),
 		frames: make([]frame, c.Frames),
+		table:  table.Empty(c.Slots),
 	}
 	for i := range m.envs {
 		m.envs[i].alive = true

@@ -82,6 +82,10 @@ func refuseEnv(t *testing.T, m *Machine, env int) {
 	refuseAlloc(t, m, env, api.ErrEnv)
 	refuseDerive(t, m, env, 1, 0, false, api.ErrEnv)
 	refuseEnds(t, m, env, 1, api.ErrEnv)
+	refuseMap(t, m, env, 0, 1, false, 0, api.ErrEnv)
+	refuseUnmap(t, m, env, 0, api.ErrEnv)
+	refuseLoad(t, m, env, 0, 0, api.ErrEnv)
+	refuseStore(t, m, env, 0, 0, 0, api.ErrEnv)
 	l, e := m.Rights(env)
 	if len(l) != 0 || e != api.ErrEnv {
 		t.Errorf("Rights(%d): %v, %d", env, l, e)

@@ -65,6 +65,7 @@ func (m *Machine) Revoke(env int, handle int) api.Errno {
 		return e
 	}
 	m.rights.EndDerived(right.Handle)
+	m.dropUnbacked()
 	return api.OK
 }
 
@@ -75,6 +76,7 @@ func (m *Machine) Drop(env int, handle int) api.Errno {
 		return e
 	}
 	m.rights.End(right.Handle)
+	m.dropUnbacked()
 	return api.OK
 }
 
@@ -92,6 +94,7 @@ func (m *Machine) Kill(env int) api.Errno {
 		return api.ErrEnv
 	}
 	m.rights.EndOf(env)
+	m.dropUnbacked()
 	m.envs[env] = environment{}
 	return api.OK
 }

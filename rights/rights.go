@@ -53,6 +53,16 @@ func (s *Store) Of(env int) []api.Right {
 	return list
 }
 
+// Backs tells whether a right of env to a frame is alive, by which one may write if write is true.
+func (s *Store) Backs(env int, frame int, write bool) bool {
+	for _, h := range s.alive {
+		if h.right.Env == env && h.right.Frame == frame && (h.right.Write || !write) {
+			return true
+		}
+	}
+	return false
+}
+
 // First makes the first right to a frame, and answers its handle. The caller has seen that the frame is free and the store not full.
 func (s *Store) First(env int, frame int) int {
 	return s.add(api.Right{Env: env, Frame: frame, Write: true}, noParent)

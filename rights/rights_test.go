@@ -114,3 +114,34 @@ func TestFull(t *testing.T) {
 		t.Error("full behind an end")
 	}
 }
+
+func TestBacks(t *testing.T) {
+	s := family()
+	for _, c := range []struct {
+		env, frame  int
+		read, write bool
+	}{
+		{0, 3, true, true}, {1, 3, true, true}, {2, 3, true, false}, {3, 3, false, false},
+		{0, 7, false, false}, {1, 7, true, true}, {2, 7, false, false}, {0, 0, false, false}, {-1, 3, false, false},
+	} {
+		wantBacks(t, s, c.env, c.frame, c.read, c.write)
+	}
+	one, _ := s.Find(0, 1)
+	s.Derive(one, 2, true)
+	wantBacks(t, s, 2, 3, true, true) // by the last of three
+	s.End(2)
+	wantBacks(t, s, 0, 3, true, true)
+	wantBacks(t, s, 1, 3, false, false)
+	s.End(1)
+	wantBacks(t, s, 2, 3, false, false)
+}
+
+func wantBacks(t *testing.T, s *Store, env int, frame int, read bool, write bool) {
+	t.Helper()
+	if got := s.Backs(env, frame, false); got != read {
+		t.Errorf("Backs(%d, %d, false) = %v", env, frame, got)
+	}
+	if got := s.Backs(env, frame, true); got != write {
+		t.Errorf("Backs(%d, %d, true) = %v", env, frame, got)
+	}
+}
