@@ -3,6 +3,7 @@ package frames
 
 import (
 	"frames/api"
+	"frames/kept"
 	"frames/rights"
 	"frames/table"
 )
@@ -17,8 +18,9 @@ type Machine struct {
 
 // environment: raw and not alive, as long as nothing else is said.
 type environment struct {
-	alive bool
-	kept  bool
+	alive  bool
+	kept   bool
+	memory kept.Memory // says nothing while the environment is raw
 }
 
 // frame: the bytes of one frame.

@@ -86,6 +86,10 @@ func refuseEnv(t *testing.T, m *Machine, env int) {
 	refuseUnmap(t, m, env, 0, api.ErrEnv)
 	refuseLoad(t, m, env, 0, 0, api.ErrEnv)
 	refuseStore(t, m, env, 0, 0, 0, api.ErrEnv)
+	refuseKeep(t, m, env, 1, api.Oldest, api.ErrEnv)
+	refuseRead(t, m, env, 0, api.ErrEnv)
+	refuseWrite(t, m, env, 0, 0, api.ErrEnv)
+	refuseCounts(t, m, env, api.ErrEnv)
 	l, e := m.Rights(env)
 	if len(l) != 0 || e != api.ErrEnv {
 		t.Errorf("Rights(%d): %v, %d", env, l, e)

@@ -2,19 +2,27 @@ package frames
 
 import (
 	"fmt"
-	"testing"
 
 	"frames/api"
 )
 
-// model says P3 to P13 in another way: every right that was ever made stays in the list, with a flag whether it has ended,
-// and the entries lie by environment and page.
+// model says P3 to P17 in another way: every right that was ever made stays in the list, with a flag whether it has ended,
+// the entries lie by environment and page, and a kept memory is one row of values, with the times of what was done to its pages.
 type model struct {
 	frames, slots, envs int
 	dead                map[int]bool
 	made                []modelRight
 	entries             map[envPage]modelEntry
-	bytes               [api.MaxFrames][api.PageSize]int
+	bytes               [api.MaxFrames][api.PageSize]int // but of the frames of kept memory
+	kept                map[int]*modelMemory
+	turn, clock         int
+}
+
+func newModel(frames int, slots int, envs int) *model {
+	return &model{
+		frames: frames, slots: slots, envs: envs,
+		dead: map[int]bool{}, entries: map[envPage]modelEntry{}, kept: map[int]*modelMemory{},
+	}
 }
 
 type envPage struct{ env, page int }
@@ -63,6 +71,17 @@ func (w *model) taken(frame int) bool {
 
 func (w *model) bad(env int) bool { return env < 0 || env >= w.envs || w.dead[env] }
 
+// raw: what P4 to P12 say of env first.
+func (w *model) raw(env int) api.Errno {
+	switch {
+	case w.bad(env):
+		return api.ErrEnv
+	case w.kept[env] != nil:
+		return api.ErrKept
+	}
+	return api.OK
+}
+
 func (w *model) cap(env int, handle int) bool {
 	return handle >= 1 && handle <= len(w.made) && w.made[handle-1].right.Env == env && w.alive(handle)
 }
@@ -74,26 +93,35 @@ func (w *model) add(env int, frame int, write bool, parent int) int {
 }
 
 func (w *model) alloc(env int) (int, api.Errno) {
-	if w.bad(env) {
-		return 0, api.ErrEnv
+	if e := w.raw(env); e != api.OK {
+		return 0, e
 	}
+	f := w.toGive()
+	if f < 0 {
+		return 0, api.ErrFull
+	}
+	w.bytes[f] = [api.PageSize]int{}
+	return w.add(env, f, true, 0), api.OK
+}
+
+// toGive: the frame that the next first right is made for, or -1.
+func (w *model) toGive() int {
 	for f := 0; f < w.frames; f++ {
 		if !w.taken(f) && w.count() < api.MaxRights {
-			w.bytes[f] = [api.PageSize]int{}
-			return w.add(env, f, true, 0), api.OK
+			return f
 		}
 	}
-	return 0, api.ErrFull
+	return -1
 }
 
 func (w *model) derive(env int, handle int, to int, write bool) (int, api.Errno) {
 	switch {
-	case w.bad(env):
-		return 0, api.ErrEnv
+	case w.raw(env) != api.OK:
+		return 0, w.raw(env)
 	case !w.cap(env, handle):
 		return 0, api.ErrCap
-	case w.bad(to):
-		return 0, api.ErrEnv
+	case w.raw(to) != api.OK:
+		return 0, w.raw(to)
 	case write && !w.made[handle-1].right.Write:
 		return 0, api.ErrRights
 	case w.count() >= api.MaxRights:
@@ -103,8 +131,8 @@ func (w *model) derive(env int, handle int, to int, write bool) (int, api.Errno)
 }
 
 func (w *model) end(env int, handle int, itself bool) api.Errno {
-	if w.bad(env) {
-		return api.ErrEnv
+	if e := w.raw(env); e != api.OK {
+		return e
 	}
 	if !w.cap(env, handle) {
 		return api.ErrCap
@@ -140,6 +168,7 @@ func (w *model) kill(env int) api.Errno {
 		}
 	}
 	w.dead[env] = true
+	delete(w.kept, env)
 	return api.OK
 }
 
@@ -170,8 +199,8 @@ func (w *model) sweep() {
 
 func (w *model) mapIt(env int, page int, handle int, write bool, slot int) api.Errno {
 	switch {
-	case w.bad(env):
-		return api.ErrEnv
+	case w.raw(env) != api.OK:
+		return w.raw(env)
 	case page < 0 || page > 15:
 		return api.ErrPage
 	case !w.cap(env, handle):
@@ -181,19 +210,24 @@ func (w *model) mapIt(env int, page int, handle int, write bool, slot int) api.E
 	case slot < 0 || slot >= w.slots:
 		return api.ErrSlot
 	}
+	w.put(envPage{env, page}, modelEntry{slot, w.made[handle-1].right.Frame, write})
+	return api.OK
+}
+
+// put: what lies in the slot gives way.
+func (w *model) put(of envPage, entry modelEntry) {
 	for at, e := range w.entries {
-		if e.slot == slot {
+		if e.slot == entry.slot {
 			delete(w.entries, at)
 		}
 	}
-	w.entries[envPage{env, page}] = modelEntry{slot, w.made[handle-1].right.Frame, write}
-	return api.OK
+	w.entries[of] = entry
 }
 
 func (w *model) unmap(env int, page int) api.Errno {
 	switch {
-	case w.bad(env):
-		return api.ErrEnv
+	case w.raw(env) != api.OK:
+		return w.raw(env)
 	case page < 0 || page > 15:
 		return api.ErrPage
 	}
@@ -204,8 +238,8 @@ func (w *model) unmap(env int, page int) api.Errno {
 func (w *model) load(env int, page int, at int) (int, api.Errno) {
 	e, found := w.entries[envPage{env, page}]
 	switch {
-	case w.bad(env):
-		return 0, api.ErrEnv
+	case w.raw(env) != api.OK:
+		return 0, w.raw(env)
 	case page < 0 || page > 15:
 		return 0, api.ErrPage
 	case at < 0 || at > 3:
@@ -219,8 +253,8 @@ func (w *model) load(env int, page int, at int) (int, api.Errno) {
 func (w *model) store(env int, page int, at int, value int) api.Errno {
 	e, found := w.entries[envPage{env, page}]
 	switch {
-	case w.bad(env):
-		return api.ErrEnv
+	case w.raw(env) != api.OK:
+		return w.raw(env)
 	case page < 0 || page > 15:
 		return api.ErrPage
 	case at < 0 || at > 3:
@@ -244,158 +278,147 @@ func (w *model) table() []api.Entry {
 	return l
 }
 
-// dice: the same numbers at every run.
-type dice struct{ state uint64 }
-
-func (d *dice) below(n int) int {
-	d.state = d.state*6364136223846793005 + 1442695040888963407
-	return int((d.state >> 33) % uint64(n))
+type modelMemory struct {
+	quota, policy      int
+	values             [api.MaxPages * api.PageSize]int
+	in                 map[int]*modelPage
+	goneChanged        map[int]bool
+	refills, ins, outs int
 }
 
-// answer: what one call said.
-type answer struct {
-	number int
-	err    api.Errno
+// modelPage: a page that is in; came and used are times of the model's clock.
+type modelPage struct {
+	frame, came, used int
+	changed           bool
 }
 
-// some chooses a number from 0 to n - 1, now and then one beyond.
-func (d *dice) some(n int) int {
-	if d.below(20) == 0 {
-		return []int{-1, n, least, most}[d.below(4)]
+func (w *model) keep(env int, quota int, policy int) api.Errno {
+	switch {
+	case w.raw(env) != api.OK:
+		return w.raw(env)
+	case quota < 1 || quota > 16 || policy < 0 || policy > 2:
+		return api.ErrArg
 	}
-	return d.below(n)
+	for _, r := range w.made {
+		if r.right.Env == env && w.alive(r.right.Handle) {
+			return api.ErrHeld
+		}
+	}
+	w.kept[env] = &modelMemory{quota: quota, policy: policy, in: map[int]*modelPage{}, goneChanged: map[int]bool{}}
+	return api.OK
 }
 
-// chosen draws a handle among the last ones, and mostly the environment whose right it is.
-func (w *model) chosen(d *dice) (int, int) {
-	env, handle := d.below(w.envs+2)-1, len(w.made)+1-d.below(40)
-	if d.below(3) > 0 && handle >= 1 && handle <= len(w.made) {
-		env = w.made[handle-1].right.Env
+// asked: what P15 and P17 say of env first.
+func (w *model) asked(env int) api.Errno {
+	switch {
+	case w.bad(env):
+		return api.ErrEnv
+	case w.kept[env] == nil:
+		return api.ErrRaw
 	}
-	return env, handle
+	return api.OK
 }
 
-// tableStep does one call of P10 to P12 with the machine and with the model, and tells its name and both answers.
-func tableStep(m *Machine, w *model, d *dice) (string, answer, answer) {
-	var got, want answer
-	env, page, at, value := d.some(w.envs), d.some(api.MaxPages), d.some(api.PageSize), d.some(256)
-	e := w.table()[d.below(w.slots)]
-	if e.Used && d.below(4) > 0 {
-		env, page = e.Env, e.Page
+func (w *model) read(env int, address int) (int, api.Errno) {
+	switch {
+	case w.asked(env) != api.OK:
+		return 0, w.asked(env)
+	case address < 0 || address > 63:
+		return 0, api.ErrArg
+	case !w.access(env, address/4, false):
+		return 0, api.ErrFull
 	}
-	switch kind := d.below(10); {
-	case kind < 5:
-		owner, handle := w.chosen(d)
-		write, slot := d.below(2) == 0, d.some(w.slots)
-		return "Map", answer{err: m.Map(owner, page, handle, write, slot)}, answer{err: w.mapIt(owner, page, handle, write, slot)}
-	case kind < 6:
-		return "Unmap", answer{err: m.Unmap(env, page)}, answer{err: w.unmap(env, page)}
-	case kind < 8:
-		got.number, got.err = m.Load(env, page, at)
-		want.number, want.err = w.load(env, page, at)
-		return "Load", got, want
-	}
-	return "Store", answer{err: m.Store(env, page, at, value)}, answer{err: w.store(env, page, at, value)}
+	return w.kept[env].values[address], api.OK
 }
 
-// rightsStep does one call of P4 to P9 with the machine and with the model, and tells its name and both answers.
-func rightsStep(m *Machine, w *model, d *dice) (string, answer, answer) {
-	env, handle := w.chosen(d)
-	to, write := d.below(w.envs+2)-1, d.below(2) == 0
-	var got, want answer
-	switch kind := d.below(80); {
-	case kind < 15:
-		got.number, got.err = m.Alloc(env)
-		want.number, want.err = w.alloc(env)
-		return "Alloc", got, want
-	case kind < 65:
-		got.number, got.err = m.Derive(env, handle, to, write)
-		want.number, want.err = w.derive(env, handle, to, write)
-		return "Derive", got, want
-	case kind < 70:
-		return "Revoke", answer{err: m.Revoke(env, handle)}, answer{err: w.end(env, handle, false)}
-	case kind < 75:
-		return "Drop", answer{err: m.Drop(env, handle)}, answer{err: w.end(env, handle, true)}
-	case kind < 77:
-		return "Kill", answer{err: m.Kill(env)}, answer{err: w.kill(env)}
+func (w *model) write(env int, address int, value int) api.Errno {
+	switch {
+	case w.asked(env) != api.OK:
+		return w.asked(env)
+	case address < 0 || address > 63 || value < 0 || value > 255:
+		return api.ErrArg
+	case !w.access(env, address/4, true):
+		return api.ErrFull
 	}
-	return "Spawn", answer{err: m.Spawn(env)}, answer{err: w.spawn(env)}
+	w.kept[env].values[address] = value
+	return api.OK
 }
 
-func step(m *Machine, w *model, d *dice) (string, answer, answer) {
-	if d.below(2) == 0 {
-		return tableStep(m, w, d)
+func (w *model) counts(env int) (api.Counts, api.Errno) {
+	if e := w.asked(env); e != api.OK {
+		return api.Counts{}, e
 	}
-	call, got, want := rightsStep(m, w, d)
-	w.sweep()
-	return call, got, want
+	k := w.kept[env]
+	return api.Counts{Refills: k.refills, Ins: k.ins, Outs: k.outs, In: len(k.in)}, api.OK
 }
 
-func TestAgainstModel(t *testing.T) {
-	seen := map[string]bool{}
-	for seed := 0; seed < 300; seed++ {
-		d := &dice{state: uint64(seed)}
-		w := &model{frames: 1 + d.below(api.MaxFrames), slots: 1 + d.below(api.MaxSlots), envs: 1 + d.below(api.MaxEnvs)}
-		w.dead, w.entries = map[int]bool{}, map[envPage]modelEntry{}
-		m := made(t, w.frames, w.slots, w.envs)
-		for i := 0; i < 500; i++ {
-			before := state(m)
-			call, got, want := step(m, w, d)
-			if got != want {
-				t.Fatalf("seed %d, call %d: %s: %v, want %v", seed, i, call, got, want)
+func (w *model) access(env int, page int, write bool) bool {
+	k := w.kept[env]
+	w.clock++
+	if k.in[page] == nil {
+		frame := w.toGive()
+		switch {
+		case frame >= 0 && len(k.in) < k.quota:
+			w.add(env, frame, true, 0)
+		case len(k.in) > 0:
+			out := k.victim()
+			frame = k.in[out].frame
+			if k.in[out].changed {
+				k.outs++
+				k.goneChanged[out] = true
 			}
-			if got.err != api.OK {
-				wantSame(t, m, before)
-			}
-			seen[fmt.Sprint(call, " ", want.err)] = true
-			sameRights(t, m, w)
-			sameTable(t, m, w)
+			delete(k.in, out)
+			delete(w.entries, envPage{env, out})
+		default:
+			return false
+		}
+		k.in[page] = &modelPage{frame: frame, came: w.clock}
+		if k.goneChanged[page] {
+			k.ins++
 		}
 	}
-	wantSeen(t, seen)
+	k.in[page].used = w.clock
+	w.refill(env, page, write)
+	k.in[page].changed = k.in[page].changed || write
+	return true
 }
 
-func sameTable(t *testing.T, m *Machine, w *model) {
-	t.Helper()
-	if got, want := fmt.Sprint(m.Table()), fmt.Sprint(w.table()); got != want {
-		t.Fatalf("Table(): %s, want %s", got, want)
-	}
-	for f := 0; f < w.frames; f++ { // what a free frame holds, nobody can see
-		if got, want := fmt.Sprint(m.frames[f]), fmt.Sprint(w.bytes[f]); w.taken(f) && got != want {
-			t.Fatalf("frame %d: %s, want %s", f, got, want)
-		}
-	}
-}
-
-func sameRights(t *testing.T, m *Machine, w *model) {
-	t.Helper()
-	for env := -1; env <= w.envs; env++ {
-		l, e := m.Rights(env)
-		if got, want := fmt.Sprint(l, e), w.rights(env); got != want {
-			t.Fatalf("Rights(%d): %s, want %s", env, got, want)
-		}
-	}
-}
-
-// wantSeen: each call has given each answer that it can, or else the numbers are too lame to show anything.
-func wantSeen(t *testing.T, seen map[string]bool) {
-	t.Helper()
-	for call, errs := range map[string][]api.Errno{
-		"Alloc":  {api.OK, api.ErrEnv, api.ErrFull},
-		"Derive": {api.OK, api.ErrEnv, api.ErrCap, api.ErrRights, api.ErrFull},
-		"Revoke": {api.OK, api.ErrEnv, api.ErrCap},
-		"Drop":   {api.OK, api.ErrEnv, api.ErrCap},
-		"Kill":   {api.OK, api.ErrEnv},
-		"Spawn":  {api.OK, api.ErrEnv, api.ErrLive},
-		"Map":    {api.OK, api.ErrEnv, api.ErrPage, api.ErrCap, api.ErrRights, api.ErrSlot},
-		"Unmap":  {api.OK, api.ErrEnv, api.ErrPage},
-		"Load":   {api.OK, api.ErrEnv, api.ErrPage, api.ErrAt, api.ErrMiss},
-		"Store":  {api.OK, api.ErrEnv, api.ErrPage, api.ErrAt, api.ErrArg, api.ErrMiss, api.ErrWrite},
-	} {
-		for _, e := range errs {
-			if !seen[fmt.Sprint(call, " ", e)] {
-				t.Errorf("%s never answered %d", call, e)
+// victim: the page that no other one of those that are in beats.
+func (k *modelMemory) victim() int {
+	for page, p := range k.in {
+		beaten := false
+		for _, o := range k.in {
+			switch k.policy {
+			case api.Oldest:
+				beaten = beaten || o.came < p.came
+			case api.Stalest:
+				beaten = beaten || o.used < p.used
+			case api.Freshest:
+				beaten = beaten || o.used > p.used
 			}
 		}
+		if !beaten {
+			return page
+		}
 	}
+	return -1
+}
+
+func (w *model) refill(env int, page int, write bool) {
+	k, p := w.kept[env], w.kept[env].in[page]
+	old, found := w.entries[envPage{env, page}]
+	if found && (old.write || !write) {
+		return
+	}
+	slot := old.slot
+	if !found {
+		for slot = 0; slot < w.slots && w.table()[slot].Used; slot++ {
+		}
+		if slot == w.slots {
+			slot = w.turn
+			w.turn = (w.turn + 1) % w.slots
+		}
+	}
+	k.refills++
+	w.put(envPage{env, page}, modelEntry{slot, p.frame, p.changed || write})
 }

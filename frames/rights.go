@@ -9,15 +9,23 @@ func (m *Machine) Alloc(env int) (int, api.Errno) {
 		return 0, e
 	}
 	least, found := m.leastFree()
-	if !found || m.rights.Full() {
+	if !found {
 		return 0, api.ErrFull
 	}
-	m.frames[least] = frame{}
-	return m.rights.First(env, least), api.OK
+	return m.give(env, least), api.OK
 }
 
-// leastFree tells the free frame with the least number, if one is free.
+// give makes the first right to a free frame, and answers its handle. The caller has the frame from leastFree.
+func (m *Machine) give(env int, free int) int {
+	m.frames[free] = frame{}
+	return m.rights.First(env, free)
+}
+
+// leastFree tells the free frame with the least number, if one is free and there is room for a right to it.
 func (m *Machine) leastFree() (int, bool) {
+	if m.rights.Full() {
+		return 0, false
+	}
 	for i := range m.frames {
 		if m.rights.Free(i) {
 			return i, true

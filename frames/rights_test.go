@@ -148,7 +148,7 @@ func TestP1OrderOfErrors(t *testing.T) {
 		derive(t, m, 0, 1, 3, false, h)
 	}
 	wantErr(t, "Kill(1)", m.Kill(1), api.OK)
-	m.envs[2].kept = true
+	keep(t, m, 2, 1, api.Oldest)
 	refuseAlloc(t, m, 1, api.ErrEnv)
 	refuseAlloc(t, m, 2, api.ErrKept)
 	refuseAlloc(t, m, 0, api.ErrFull)
@@ -166,8 +166,8 @@ func TestP1OrderOfErrors(t *testing.T) {
 
 func TestKeptEnvironments(t *testing.T) {
 	m := made(t, 2, 1, 2)
-	alloc(t, m, 0, 1)
-	m.envs[0].kept = true
+	keep(t, m, 0, 1, api.Oldest)
+	write(t, m, 0, 0, 9)
 	refuseAlloc(t, m, 0, api.ErrKept)
 	refuseDerive(t, m, 0, 1, 1, false, api.ErrKept)
 	refuseEnds(t, m, 0, 1, api.ErrKept)
@@ -175,6 +175,7 @@ func TestKeptEnvironments(t *testing.T) {
 	refuseUnmap(t, m, 0, 0, api.ErrKept)
 	refuseLoad(t, m, 0, 0, 0, api.ErrKept)
 	refuseStore(t, m, 0, 0, 0, 0, api.ErrKept)
+	refuseKeep(t, m, 0, 1, api.Oldest, api.ErrKept)
 	wantRights(t, m, 0, "[{1 0 0 true}]")
 	wantErr(t, "Spawn(0)", m.Spawn(0), api.ErrLive)
 	wantErr(t, "Kill(0)", m.Kill(0), api.OK)

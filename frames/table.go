@@ -63,7 +63,7 @@ func (m *Machine) Store(env int, page int, at int, value int) api.Errno {
 	if e != api.OK {
 		return e
 	}
-	if value < 0 || value > 255 {
+	if !isByte(value) {
 		return api.ErrArg
 	}
 	entry, found := m.table.Find(env, page)
@@ -88,6 +88,9 @@ func (m *Machine) needPlace(env int, page int, at int) api.Errno {
 	}
 	return api.OK
 }
+
+// isByte tells whether a value fits into a byte.
+func isByte(value int) bool { return value >= 0 && value <= 255 }
 
 // Table tells the slots (P13).
 func (m *Machine) Table() []api.Entry { return m.table.List() }

@@ -87,17 +87,19 @@ var (
 	noBytes  = []int{-1, 256, 257, 1 << 32, least, most}
 )
 
-// uneven: environment 0 may write frame 0 (right 1) and has it at page 3, 1 may read it (right 2), 2 is kept, 3 is not alive.
+// uneven: environment 0 may write frame 0 (right 1) and has it at page 3, 1 may read it (right 2), 2 is kept and has frame 1 (right 3)
+// at page 3, 3 is not alive.
 func uneven(t *testing.T) *Machine {
 	t.Helper()
 	m := made(t, 2, 2, 4)
 	alloc(t, m, 0, 1)
 	derive(t, m, 0, 1, 1, false, 2)
-	alloc(t, m, 2, 3)
 	mapped(t, m, 0, 3, 1, true, 0)
-	mapped(t, m, 2, 3, 3, true, 1)
+	keep(t, m, 2, 1, api.Oldest)
+	write(t, m, 2, 12, 9)
+	wantRights(t, m, 2, "[{3 2 1 true}]")
+	wantTable(t, m, "0:3=0w 2:3=1w")
 	wantErr(t, "Kill(3)", m.Kill(3), api.OK)
-	m.envs[2].kept = true
 	return m
 }
 

@@ -7,6 +7,7 @@ import "frames/api"
 // No two entries have the same environment and page.
 type Table struct {
 	slots []api.Entry
+	turn  int // the slot that gives way next, when Refill finds none
 }
 
 // Empty makes a table of so many slots. The caller has seen that the number is not negative.
@@ -30,20 +31,28 @@ func (t *Table) List() []api.Entry {
 
 // Find tells the entry of env and page, if there is one.
 func (t *Table) Find(env int, page int) (api.Entry, bool) {
-	for _, e := range t.slots {
-		if isOf(e, env, page) {
-			return e, true
+	slot, found := t.slotOf(env, page)
+	if !found {
+		return api.Entry{}, false
+	}
+	return t.slots[slot], true
+}
+
+// slotOf tells the slot of the entry of env and page, if there is one.
+func (t *Table) slotOf(env int, page int) (int, bool) {
+	for i, e := range t.slots {
+		if e.Used && e.Env == env && e.Page == page {
+			return i, true
 		}
 	}
-	return api.Entry{}, false
+	return 0, false
 }
 
 // Remove takes the entry of env and page out, if there is one.
 func (t *Table) Remove(env int, page int) {
-	for i, e := range t.slots {
-		if isOf(e, env, page) {
-			t.slots[i] = api.Entry{}
-		}
+	slot, found := t.slotOf(env, page)
+	if found {
+		t.slots[slot] = api.Entry{}
 	}
 }
 
@@ -56,7 +65,35 @@ func (t *Table) Put(slot int, entry api.Entry) {
 	t.slots[slot] = entry
 }
 
-// isOf tells whether a slot holds the entry of env and page. An empty slot looks like one of environment 0 and page 0.
-func isOf(e api.Entry, env int, page int) bool {
-	return e.Used && e.Env == env && e.Page == page
+// Refill lays an entry into the slot of the one of the same environment and page; if there is none, into the first empty slot;
+// and if none is empty, into the slot whose turn it is.
+func (t *Table) Refill(entry api.Entry) {
+	slot, found := t.slotOf(entry.Env, entry.Page)
+	if !found {
+		slot, found = t.firstEmpty()
+	}
+	if !found {
+		slot = t.takeTurn()
+	}
+	t.Put(slot, entry)
+}
+
+// firstEmpty tells the empty slot with the least number, if one is empty.
+func (t *Table) firstEmpty() (int, bool) {
+	for i, e := range t.slots {
+		if !e.Used {
+			return i, true
+		}
+	}
+	return 0, false
+}
+
+// takeTurn tells the slot whose turn it is, and passes the turn on.
+func (t *Table) takeTurn() int {
+	slot := t.turn
+	t.turn++
+	if t.turn >= len(t.slots) {
+		t.turn = 0
+	}
+	return slot
 }

@@ -93,3 +93,38 @@ func TestListIsTheCallers(t *testing.T) {
 		t.Errorf("a list that came out early is now %v", early)
 	}
 }
+
+func TestRefill(t *testing.T) {
+	table := Empty(3)
+	none := api.Entry{}
+	a, b, c, d, e := entry(0, 0, 1, false), entry(0, 1, 2, true), entry(1, 0, 3, true), entry(1, 1, 4, true), entry(2, 0, 5, false)
+	table.Put(1, a)
+	table.Refill(b)
+	wantList(t, &table, b, a, none)
+	table.Refill(entry(0, 0, 1, true)) // in its own slot, though another one is empty
+	wantList(t, &table, b, entry(0, 0, 1, true), none)
+	table.Refill(c)
+	wantList(t, &table, b, entry(0, 0, 1, true), c)
+	table.Refill(d) // turn 0
+	wantList(t, &table, d, entry(0, 0, 1, true), c)
+	table.Refill(entry(1, 0, 6, false)) // in its own slot, though none is empty: no turn
+	wantList(t, &table, d, entry(0, 0, 1, true), entry(1, 0, 6, false))
+	table.Refill(b) // turn 1
+	wantList(t, &table, d, b, entry(1, 0, 6, false))
+	table.Remove(1, 1)
+	table.Refill(a) // the empty slot: no turn
+	wantList(t, &table, a, b, entry(1, 0, 6, false))
+	table.Put(0, d) // no turn
+	table.Refill(e) // turn 2
+	wantList(t, &table, d, b, e)
+	table.Refill(c) // turn 0
+	wantList(t, &table, c, b, e)
+}
+
+func TestRefillOfOneSlot(t *testing.T) {
+	table := Empty(1)
+	for page := 0; page < 5; page++ {
+		table.Refill(entry(0, page, page, false))
+		wantList(t, &table, entry(0, page, page, false))
+	}
+}
