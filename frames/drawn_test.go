@@ -2,6 +2,7 @@ package frames
 
 import (
 	"fmt"
+	"slices"
 	"testing"
 
 	"frames/api"
@@ -10,7 +11,7 @@ import (
 // dice: the same numbers at every run.
 type dice struct {
 	state  uint64
-	memory int  // of ten calls, so many are of P14 to P17
+	memory int  // of ten calls, so many are of P14 to P19
 	calm   bool // environment 0 alone is kept, and few calls end rights, so that as many are alive as may be
 }
 
@@ -44,6 +45,16 @@ func plain(e api.Errno) answer         { return answer{err: e} }
 func number(n int, e api.Errno) answer { return answer{n, e} }
 func counted(c api.Counts, e api.Errno) answer {
 	return answer{((c.Refills*1000+c.Ins)*1000+c.Outs)*1000 + c.In, e}
+}
+
+// listed: the list as one number, which tells its order too, and a list written over, as its caller may do.
+func listed(l []int, e api.Errno) answer {
+	n := 0
+	for i, page := range l {
+		n = n*31 + page + 1
+		l[i] = least
+	}
+	return answer{n, e}
 }
 
 // chosen draws a handle, mostly of a right that is alive, and mostly the environment whose right it is.
@@ -108,22 +119,29 @@ func (w *model) rightsStep(d *dice) drawn {
 	return drawn{"Spawn", plain(w.spawn(env)), func(m *Machine) answer { return plain(m.Spawn(env)) }}
 }
 
-// memoryStep draws a call of P14 to P17.
+// memoryStep draws a call of P14 to P19.
 func (w *model) memoryStep(d *dice) drawn {
 	env, address, value := d.some(w.envs), d.some(64), d.some(256)
 	for i := 0; i < 2 && w.kept[env] == nil; i++ {
 		env = d.some(w.envs)
 	}
-	switch kind := d.below(20); {
+	quota := 1 + d.some(api.MaxFrames>>d.below(4))
+	switch kind := d.below(25); {
 	case kind < 2 && !d.calm:
-		quota, policy := 1+d.some(api.MaxFrames>>d.below(4)), d.some(3)
+		policy := d.some(3)
 		return drawn{"Keep", plain(w.keep(env, quota, policy)), func(m *Machine) answer { return plain(m.Keep(env, quota, policy)) }}
 	case kind < 10:
 		return drawn{"Read", number(w.read(env, address)), func(m *Machine) answer { return number(m.Read(env, address)) }}
 	case kind < 19:
 		return drawn{"Write", plain(w.write(env, address, value)), func(m *Machine) answer { return plain(m.Write(env, address, value)) }}
+	case kind < 20:
+		return drawn{"Counts", counted(w.counts(env)), func(m *Machine) answer { return counted(m.Counts(env)) }}
+	case kind < 22:
+		return drawn{"Dirty", listed(w.dirty(env)), func(m *Machine) answer { return listed(m.Dirty(env)) }}
+	case kind < 23:
+		return drawn{"Clean", plain(w.clean(env)), func(m *Machine) answer { return plain(m.Clean(env)) }}
 	}
-	return drawn{"Counts", counted(w.counts(env)), func(m *Machine) answer { return counted(m.Counts(env)) }}
+	return drawn{"Squeeze", plain(w.squeeze(env, quota)), func(m *Machine) answer { return plain(m.Squeeze(env, quota)) }}
 }
 
 func (w *model) step(d *dice) drawn {
@@ -217,6 +235,10 @@ func sameMemory(t *testing.T, m *Machine, w *model) {
 		if want, err := w.counts(env); got != want || e != err {
 			t.Fatalf("Counts(%d): %+v, %d, want %+v, %d", env, got, e, want, err)
 		}
+		l, e := m.Dirty(env)
+		if want, err := w.dirty(env); !slices.Equal(l, want) || e != err {
+			t.Fatalf("Dirty(%d): %v, %d, want %v, %d", env, l, e, want, err)
+		}
 	}
 }
 
@@ -224,20 +246,23 @@ func sameMemory(t *testing.T, m *Machine, w *model) {
 func wantSeen(t *testing.T, seen map[string]bool) {
 	t.Helper()
 	for call, errs := range map[string][]api.Errno{
-		"Alloc":  {api.OK, api.ErrEnv, api.ErrKept, api.ErrFull},
-		"Derive": {api.OK, api.ErrEnv, api.ErrKept, api.ErrCap, api.ErrRights, api.ErrFull},
-		"Revoke": {api.OK, api.ErrEnv, api.ErrKept, api.ErrCap},
-		"Drop":   {api.OK, api.ErrEnv, api.ErrKept, api.ErrCap},
-		"Kill":   {api.OK, api.ErrEnv},
-		"Spawn":  {api.OK, api.ErrEnv, api.ErrLive},
-		"Map":    {api.OK, api.ErrEnv, api.ErrKept, api.ErrPage, api.ErrCap, api.ErrRights, api.ErrSlot},
-		"Unmap":  {api.OK, api.ErrEnv, api.ErrKept, api.ErrPage},
-		"Load":   {api.OK, api.ErrEnv, api.ErrKept, api.ErrPage, api.ErrAt, api.ErrMiss},
-		"Store":  {api.OK, api.ErrEnv, api.ErrKept, api.ErrPage, api.ErrAt, api.ErrArg, api.ErrMiss, api.ErrWrite},
-		"Keep":   {api.OK, api.ErrEnv, api.ErrKept, api.ErrArg, api.ErrHeld},
-		"Read":   {api.OK, api.ErrEnv, api.ErrRaw, api.ErrArg, api.ErrFull},
-		"Write":  {api.OK, api.ErrEnv, api.ErrRaw, api.ErrArg, api.ErrFull},
-		"Counts": {api.OK, api.ErrEnv, api.ErrRaw},
+		"Alloc":   {api.OK, api.ErrEnv, api.ErrKept, api.ErrFull},
+		"Derive":  {api.OK, api.ErrEnv, api.ErrKept, api.ErrCap, api.ErrRights, api.ErrFull},
+		"Revoke":  {api.OK, api.ErrEnv, api.ErrKept, api.ErrCap},
+		"Drop":    {api.OK, api.ErrEnv, api.ErrKept, api.ErrCap},
+		"Kill":    {api.OK, api.ErrEnv},
+		"Spawn":   {api.OK, api.ErrEnv, api.ErrLive},
+		"Map":     {api.OK, api.ErrEnv, api.ErrKept, api.ErrPage, api.ErrCap, api.ErrRights, api.ErrSlot},
+		"Unmap":   {api.OK, api.ErrEnv, api.ErrKept, api.ErrPage},
+		"Load":    {api.OK, api.ErrEnv, api.ErrKept, api.ErrPage, api.ErrAt, api.ErrMiss},
+		"Store":   {api.OK, api.ErrEnv, api.ErrKept, api.ErrPage, api.ErrAt, api.ErrArg, api.ErrMiss, api.ErrWrite},
+		"Keep":    {api.OK, api.ErrEnv, api.ErrKept, api.ErrArg, api.ErrHeld},
+		"Read":    {api.OK, api.ErrEnv, api.ErrRaw, api.ErrArg, api.ErrFull},
+		"Write":   {api.OK, api.ErrEnv, api.ErrRaw, api.ErrArg, api.ErrFull},
+		"Counts":  {api.OK, api.ErrEnv, api.ErrRaw},
+		"Dirty":   {api.OK, api.ErrEnv, api.ErrRaw},
+		"Clean":   {api.OK, api.ErrEnv, api.ErrRaw},
+		"Squeeze": {api.OK, api.ErrEnv, api.ErrRaw, api.ErrArg},
 	} {
 		for _, e := range errs {
 			if !seen[fmt.Sprint(call, " ", e)] {

@@ -90,6 +90,8 @@ func refuseEnv(t *testing.T, m *Machine, env int) {
 	refuseRead(t, m, env, 0, api.ErrEnv)
 	refuseWrite(t, m, env, 0, 0, api.ErrEnv)
 	refuseCounts(t, m, env, api.ErrEnv)
+	refuseDirty(t, m, env, api.ErrEnv)
+	refuseSqueeze(t, m, env, 1, api.ErrEnv)
 	l, e := m.Rights(env)
 	if len(l) != 0 || e != api.ErrEnv {
 		t.Errorf("Rights(%d): %v, %d", env, l, e)

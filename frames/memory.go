@@ -152,10 +152,44 @@ func (m *Machine) Counts(env int) (api.Counts, api.Errno) {
 }
 
 // Dirty tells the pages that were written (P18).
-func (m *Machine) Dirty(env int) ([]int, api.Errno) { return nil, api.OK }
+func (m *Machine) Dirty(env int) ([]int, api.Errno) {
+	e := m.needKept(env)
+	if e != api.OK {
+		return nil, e
+	}
+	return m.envs[env].memory.Dirty(), api.OK
+}
 
 // Clean makes none dirty (P18).
-func (m *Machine) Clean(env int) api.Errno { return api.OK }
+func (m *Machine) Clean(env int) api.Errno {
+	e := m.needKept(env)
+	if e != api.OK {
+		return e
+	}
+	m.envs[env].memory.Clean()
+	return api.OK
+}
 
 // Squeeze sets another quota (P19).
-func (m *Machine) Squeeze(env int, quota int) api.Errno { return api.OK }
+func (m *Machine) Squeeze(env int, quota int) api.Errno {
+	e := m.needKept(env)
+	if e != api.OK {
+		return e
+	}
+	if !isQuota(quota) {
+		return api.ErrArg
+	}
+	beyond := m.envs[env].memory.SetQuota(quota)
+	for i := 0; i < beyond; i++ {
+		m.giveUp(env)
+	}
+	return api.OK
+}
+
+// giveUp lets the page go out that the policy chooses, and its frame become free.
+func (m *Machine) giveUp(env int) {
+	home, found := m.putOut(env)
+	if found {
+		m.rights.EndFirst(home)
+	}
+}

@@ -2,11 +2,12 @@ package frames
 
 import (
 	"fmt"
+	"slices"
 
 	"frames/api"
 )
 
-// model says P3 to P17 in another way: every right that was ever made stays in the list, with a flag whether it has ended,
+// model says P3 to P19 in another way: every right that was ever made stays in the list, with a flag whether it has ended,
 // the entries lie by environment and page, and a kept memory is one row of values, with the times of what was done to its pages.
 type model struct {
 	frames, slots, envs int
@@ -282,7 +283,7 @@ type modelMemory struct {
 	quota, policy      int
 	values             [api.MaxPages * api.PageSize]int
 	in                 map[int]*modelPage
-	goneChanged        map[int]bool
+	goneChanged, dirty map[int]bool
 	refills, ins, outs int
 }
 
@@ -304,11 +305,11 @@ func (w *model) keep(env int, quota int, policy int) api.Errno {
 			return api.ErrHeld
 		}
 	}
-	w.kept[env] = &modelMemory{quota: quota, policy: policy, in: map[int]*modelPage{}, goneChanged: map[int]bool{}}
+	w.kept[env] = &modelMemory{quota: quota, policy: policy, in: map[int]*modelPage{}, goneChanged: map[int]bool{}, dirty: map[int]bool{}}
 	return api.OK
 }
 
-// asked: what P15 and P17 say of env first.
+// asked: what P15 and P17 to P19 say of env first.
 func (w *model) asked(env int) api.Errno {
 	switch {
 	case w.bad(env):
@@ -341,7 +342,61 @@ func (w *model) write(env int, address int, value int) api.Errno {
 		return api.ErrFull
 	}
 	w.kept[env].values[address] = value
+	w.kept[env].dirty[address/4] = true
 	return api.OK
+}
+
+func (w *model) dirty(env int) ([]int, api.Errno) {
+	if e := w.asked(env); e != api.OK {
+		return nil, e
+	}
+	var l []int
+	for page := range w.kept[env].dirty {
+		l = append(l, page)
+	}
+	slices.Sort(l)
+	return l, api.OK
+}
+
+func (w *model) clean(env int) api.Errno {
+	if e := w.asked(env); e != api.OK {
+		return e
+	}
+	clear(w.kept[env].dirty)
+	return api.OK
+}
+
+func (w *model) squeeze(env int, quota int) api.Errno {
+	switch {
+	case w.asked(env) != api.OK:
+		return w.asked(env)
+	case quota < 1 || quota > 16:
+		return api.ErrArg
+	}
+	k := w.kept[env]
+	for k.quota = quota; len(k.in) > quota; {
+		frame := w.out(env)
+		for i, r := range w.made {
+			if r.right.Frame == frame && r.right.Env == env {
+				w.made[i].ended = true
+			}
+		}
+	}
+	return api.OK
+}
+
+// out: the policy's page goes out; its frame.
+func (w *model) out(env int) int {
+	k := w.kept[env]
+	page := k.victim()
+	frame := k.in[page].frame
+	if k.in[page].changed {
+		k.outs++
+		k.goneChanged[page] = true
+	}
+	delete(k.in, page)
+	delete(w.entries, envPage{env, page})
+	return frame
 }
 
 func (w *model) counts(env int) (api.Counts, api.Errno) {
@@ -361,14 +416,7 @@ func (w *model) access(env int, page int, write bool) bool {
 		case frame >= 0 && len(k.in) < k.quota:
 			w.add(env, frame, true, 0)
 		case len(k.in) > 0:
-			out := k.victim()
-			frame = k.in[out].frame
-			if k.in[out].changed {
-				k.outs++
-				k.goneChanged[out] = true
-			}
-			delete(k.in, out)
-			delete(w.entries, envPage{env, out})
+			frame = w.out(env)
 		default:
 			return false
 		}

@@ -8,7 +8,7 @@ import "frames/api"
 type record struct {
 	frame   int                // where it lies; says nothing while the page is not in
 	changed bool               // written since it came in; says nothing while the page is not in
-	dirty   bool               // written since Keep
+	dirty   bool               // written since Keep, or since the last Clean
 	stored  bool               // gone out changed since Keep: outside holds it
 	outside [api.PageSize]byte // all 0 of a page that was never stored, and that is what such a page holds
 }
@@ -33,6 +33,12 @@ func Empty(quota int, policy int) Memory {
 
 // HasRoom tells whether fewer pages are in than the quota allows.
 func (k *Memory) HasRoom() bool { return len(k.in) < k.quota }
+
+// SetQuota sets another quota, and tells by how many pages those that are in go beyond it: 0 or less, if they don't.
+func (k *Memory) SetQuota(quota int) int {
+	k.quota = quota
+	return len(k.in) - quota
+}
 
 // Frame tells where a page lies, if it is in.
 func (k *Memory) Frame(page int) (int, bool) {
@@ -91,6 +97,24 @@ func (k *Memory) Touch(page int, write bool) {
 	}
 	k.in = without(k.in, page)
 	k.in = append(k.in, page)
+}
+
+// Dirty tells the pages that are dirty, in rising order, as a fresh list. They need not be in.
+func (k *Memory) Dirty() []int {
+	var list []int
+	for page := range k.pages {
+		if k.pages[page].dirty {
+			list = append(list, page)
+		}
+	}
+	return list
+}
+
+// Clean makes none dirty. A page stays changed: what it holds still differs from what lies outside.
+func (k *Memory) Clean() {
+	for page := range k.pages {
+		k.pages[page].dirty = false
+	}
 }
 
 // CountRefill says that an entry was put into the table.

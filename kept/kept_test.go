@@ -149,19 +149,65 @@ func TestChangedAndDirty(t *testing.T) {
 		k.Touch(5, true)
 		k.Touch(6, false)
 		for page := 0; page < api.MaxPages; page++ {
-			if k.Changed(page) != (page == 5) || k.pages[page].dirty != (page == 5) {
-				t.Errorf("page %d: changed %v, dirty %v", page, k.Changed(page), k.pages[page].dirty)
+			if k.Changed(page) != (page == 5) {
+				t.Errorf("page %d: changed %v", page, k.Changed(page))
 			}
 		}
+		wantDirty(t, k, "[5]")
 		k.Touch(5, false)
 		if !k.Changed(5) {
 			t.Error("page 5 is not changed any more behind a Read")
 		}
 		k.GoOut(5, bytes{})
 		k.ComeIn(5, 15)
-		if k.Changed(5) || !k.pages[5].dirty {
-			t.Errorf("page 5 back in: changed %v, dirty %v", k.Changed(5), k.pages[5].dirty)
+		if k.Changed(5) {
+			t.Error("page 5 is changed as it is back in")
 		}
+		wantDirty(t, k, "[5]")
+	}
+}
+
+func wantDirty(t *testing.T, k *Memory, want string) {
+	t.Helper()
+	if got := fmt.Sprint(k.Dirty()); got != want {
+		t.Errorf("Dirty() = %s, want %s", got, want)
+	}
+}
+
+func TestClean(t *testing.T) {
+	k := with(api.Freshest)
+	k.Clean()
+	wantDirty(t, k, "[]")
+	for page := 6; page >= 4; page-- {
+		k.Touch(page, true)
+	}
+	k.GoOut(5, bytes{8})
+	wantDirty(t, k, "[4 5 6]")
+	k.Clean()
+	wantDirty(t, k, "[]")
+	if !k.Changed(4) || !k.Changed(6) {
+		t.Error("a page that is in is not changed any more")
+	}
+	wantIn(t, k, 5, bytes{8})
+	k.GoOut(4, bytes{7})
+	wantIn(t, k, 4, bytes{7})
+	wantCounts(t, k, api.Counts{Ins: 2, Outs: 2, In: 3})
+	wantDirty(t, k, "[]")
+	k.Touch(6, true)
+	k.Touch(4, false)
+	wantDirty(t, k, "[6]")
+}
+
+func TestSetQuota(t *testing.T) {
+	for quota := 1; quota <= api.MaxFrames; quota++ {
+		k := with(api.Oldest)
+		if got := k.SetQuota(quota); max(got, 0) != max(3-quota, 0) {
+			t.Errorf("SetQuota(%d) = %d", quota, got)
+		}
+		if k.HasRoom() != (quota > 3) {
+			t.Errorf("SetQuota(%d): HasRoom() = %v", quota, k.HasRoom())
+		}
+		wantCounts(t, k, api.Counts{In: 3}) // they go out one by one, by the caller
 	}
 }
 

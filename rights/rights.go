@@ -108,6 +108,17 @@ func (s *Store) EndOf(env int) {
 	s.endAll(owned)
 }
 
+// EndFirst ends the first right to a frame, and so all rights to it: the others come of it.
+func (s *Store) EndFirst(frame int) {
+	var left []held
+	for _, h := range s.alive {
+		if h.right.Frame != frame {
+			left = append(left, h)
+		}
+	}
+	s.alive = left
+}
+
 // endAll ends the rights with these handles, and all that comes of them.
 func (s *Store) endAll(handles []int) {
 	var left []held

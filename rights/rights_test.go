@@ -84,6 +84,17 @@ func TestEnding(t *testing.T) {
 		s.EndOf(env)
 		wantAlive(t, s, fmt.Sprintf("EndOf(%d)", env), want)
 	}
+	for frame, want := range []string{3: "[6]", 7: "[1 2 3 4 5]", 8: "[1 2 3 4 5 6]"} {
+		if want == "" {
+			want = "[1 2 3 4 5 6]" // the frame is free
+		}
+		s := family()
+		s.EndFirst(frame)
+		wantAlive(t, s, fmt.Sprintf("EndFirst(%d)", frame), want)
+		if !s.Free(frame) {
+			t.Errorf("EndFirst(%d): it is not free", frame)
+		}
+	}
 }
 
 func TestHandlesAreNotGivenTwice(t *testing.T) {
